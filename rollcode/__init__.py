@@ -1,0 +1,1 @@
+"""Rollcode: a door and a far button with codes that go on."""
