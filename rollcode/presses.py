@@ -1,8 +1,34 @@
 """Presses: the key of a button, what it sends, and what is read of that."""
 
-from rollcode.tables import DIGITS, coded, decoded
+from rollcode.tables import DIGITS, are_digits, coded, decoded, is_number
 
 KEY_PLACES = 4
+LONGEST_NAME = 8
+CODE_DIGITS = 5
+AGES = 8
+COUNTS = 4096
+
+
+def is_name(thing):
+    """Whether a thing is a text of one to eight letters a to z."""
+    if not isinstance(thing, str) or not 1 <= len(thing) <= LONGEST_NAME:
+        return False
+    return all(["a" <= letter <= "z" for letter in thing])
+
+
+def is_code(thing):
+    """Whether a thing is a tuple of five digits."""
+    if not isinstance(thing, tuple):
+        return False
+    return len(thing) == CODE_DIGITS and are_digits(thing)
+
+
+def is_press(thing):
+    """Whether a thing has the form of a press, whatever its age and its sum."""
+    if not isinstance(thing, tuple) or len(thing) != 3:
+        return False
+    name, age, code = thing
+    return is_name(name) and is_number(age) and is_code(code)
 
 
 def letter_digits(name):

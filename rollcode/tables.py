@@ -4,12 +4,15 @@ DIGITS = 16
 LONGEST_KEY = 8
 
 
+def is_number(thing):
+    """Whether a thing is a whole number."""
+    # To Python True and False are whole numbers, too; here they are none.
+    return isinstance(thing, int) and not isinstance(thing, bool)
+
+
 def is_digit(thing):
     """Whether a thing is a whole number from 0 to 15."""
-    # To Python True and False are whole numbers, too; here they are none.
-    if isinstance(thing, bool) or not isinstance(thing, int):
-        return False
-    return 0 <= thing < DIGITS
+    return is_number(thing) and 0 <= thing < DIGITS
 
 
 def are_digits(things):

@@ -1,4 +1,8 @@
-"""Tables and small checks that several test files share."""
+"""Tables, keys, presses and small checks that several test files share."""
+
+from rollcode.doors import Door
+from rollcode.presses import key_of, press_of
+from rollcode.tables import coded
 
 PLAIN = (0, 1, 2, 3, 4, 5, 6, 7, 8, 9, 10, 11, 12, 13, 14, 15)
 BACKWARD = (15, 14, 13, 12, 11, 10, 9, 8, 7, 6, 5, 4, 3, 2, 1, 0)
@@ -17,6 +21,62 @@ KEYS = (
     (9, 8, 7, 6, 5, 4, 3),
     (1, 2, 3, 4, 5, 6, 7, 8),
 )
+
+# A house's keys, by their ages.
+HOUSE = (
+    (3, 9),
+    (7, 0, 15),
+    (1, 2, 3, 4),
+    (15,),
+    (0, 1, 0, 1, 0, 8),
+    (9, 8, 7, 6, 5, 4, 3),
+    (1, 2, 3, 4, 5, 6, 7, 8),
+    (4, 4),
+)
+
+
+def sent(name, age, count, deed=0):
+    """The press of a button of the house."""
+    return press_of(MIXED, HOUSE[age], name, age, count, deed)
+
+
+def wrong_sum(name, age, count):
+    """A press of the house, right in all but that its sum is one too great."""
+    four = (count % 16, count // 16 % 16, count // 256, 0)
+    five = four + ((sum(four) + 1) % 16,)
+    return (name, age, coded(MIXED, key_of(MIXED, HOUSE[age], name), five))
+
+
+def new_door(many=2, near=4, far=20, most=3):
+    """A door of the house with so many keys, that knows no button yet."""
+    return Door(MIXED, HOUSE[:many], near, far, most)
+
+
+def teach(door, name, age, last):
+    """The door learns the button: last is the count of its second press."""
+    door.learn(sent(name, age, last - 1), sent(name, age, last))
+
+
+def door_with(name, age, last, **made):
+    """A door as by new_door that has learnt this button."""
+    door = new_door(**made)
+    teach(door, name, age, last)
+    return door
+
+
+def state_of(door):
+    """All that a door tells of itself."""
+    return (
+        door.known_now(), door.keys_now(), door.closed_now(),
+        door.bounds_told(), door.table_told(), door.log_now())
+
+
+def check_told(test, thing):
+    """What was told is made of numbers, texts, None and tuples alone."""
+    test.assertIn(type(thing), (int, str, type(None), tuple))
+    if type(thing) is tuple:
+        for part in thing:
+            check_told(test, part)
 
 
 def check_row(test, row, length):
