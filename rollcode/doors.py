@@ -2,7 +2,7 @@
 
 from rollcode.errors import BadPress, Full, Known, TooMany, Unknown
 from rollcode.presses import AGES, is_press, read_press
-from rollcode.windows import word_of
+from rollcode.windows import step_by
 
 
 class Door:
@@ -68,34 +68,37 @@ class Door:
     def answer_to(self, press):
         """The answer to what has the form of a press, and what comes of it."""
         name, age, code = press
-        if name not in self.buttons:
+        button = self.button_of(name)
+        if button is None:
             return ("held", "unknown")
-        if not self.takes_age(age) or age < self.buttons[name][0]:
+        if not self.takes_from(button, age):
             return ("held", "age")
         pair = read_press(self.table, self.house_keys[age], press)
         if pair is None:
             return ("held", "false")
         count, deed = pair
-        word = self.window_word(name, age, count)
+        word, behind = self.plain_step(button, age, count)
+        self.buttons[name] = behind
         if word == "near":
-            self.buttons[name] = (age, count, None)
             return ("open", name, deed)
-        if word == "far":
-            self.let_wait(name, age, count)
         return ("held", word)
 
-    def window_word(self, name, age, count):
-        """The word of a known button's count; two far ones in a row are near."""
-        button_age, last, waiting = self.buttons[name]
-        word = word_of(count, last, self.near, self.far)
-        if word == "far" and waiting == (age, count - 1):
-            return "near"
-        return word
+    def button_of(self, name):
+        """The known button (age, last, waiting or None), None of an unknown one."""
+        return self.buttons.get(name)
 
-    def let_wait(self, name, age, count):
-        """The pair waits for the next one, in the place of any other."""
-        button_age, last, waiting = self.buttons[name]
-        self.buttons[name] = (button_age, last, (age, count))
+    def plain_step(self, button, age, count):
+        """The word of a button's press by its count alone, and the button behind it.
+
+        Nothing of the door changes by it; "near" is what opens.
+        """
+        if not self.takes_from(button, age):
+            return ("age", button)
+        return step_by(button, age, count, self.near, self.far)
+
+    def takes_from(self, button, age):
+        """Whether a press of that age may be let in of this button."""
+        return self.takes_age(age) and age >= button[0]
 
     def takes_age(self, age):
         """Whether there is a key of that age, and it isn't closed."""

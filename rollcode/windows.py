@@ -1,4 +1,4 @@
-"""Windows: how far a count is ahead of the last one that was let in."""
+"""Windows: how far a count is ahead of the last one that was let in, and what comes of it."""
 
 
 def word_of(count, last, near, far):
@@ -10,3 +10,20 @@ def word_of(count, last, near, far):
     if count <= last + far:
         return "far"
     return "beyond"
+
+
+def step_by(button, age, count, near, far):
+    """The word of a press of a button that takes its age, and the button behind it.
+
+    A button is (age, last, waiting or None); "near" is what opens.
+    """
+    own_age, last, waiting = button
+    word = word_of(count, last, near, far)
+    if word == "far" and waiting == (age, count - 1):
+        # Two far ones in a row open as a near one does.
+        word = "near"
+    if word == "near":
+        return (word, (age, count, None))
+    if word == "far":
+        return (word, (own_age, last, (age, count)))
+    return (word, button)

@@ -86,3 +86,58 @@ def check_row(test, row, length):
     for digit in row:
         test.assertIs(type(digit), int)
         test.assertIn(digit, range(16))
+
+
+def labelled(name, age, count):
+    """A press with any number as its age; one of the keys', where there is one."""
+    key = HOUSE[age] if 0 <= age < len(HOUSE) else HOUSE[0]
+    return press_of(MIXED, key, name, age, count, 0)
+
+
+def door_of(known, many=2, near=4, far=20, most=3, closed=0):
+    """A door of the house that has come, by what it heard, to what known_now tells."""
+    door = new_door(many, near, far, most)
+    for name, age, last, waiting in known:
+        teach(door, name, age, last)
+        if waiting is not None:
+            assert door.hear(sent(name, *waiting)) == ("held", "far")
+    if closed:
+        door.close_below(closed)
+    assert door.known_now() == tuple(known)
+    return door
+
+
+def plain_hear(door, button, age, count):
+    """(whether it opens, the button behind it): point [8] in the test's own words.
+
+    A button is (age, last, waiting or None), or None where it isn't known.
+    """
+    near, far, most = door.bounds_told()
+    if button is None or age < door.closed_now() or not 0 <= age < len(door.keys_now()):
+        return (False, button)
+    own, last, waiting = button
+    if age < own or count <= last or count > last + far:
+        return (False, button)
+    if count <= last + near or waiting == (age, count - 1):
+        return (True, (age, count, None))
+    return (False, (own, last, (age, count)))
+
+
+def plain_button(door, name):
+    """The button as plain_hear takes it."""
+    for row in door.known_now():
+        if row[0] == name:
+            return row[1:]
+    return None
+
+
+def states_at(near, far, lasts, ages=2):
+    """All (age, last, waiting or None) that a button with such a last count can have."""
+    states = []
+    for age in range(ages):
+        for last in lasts:
+            states.append((age, last, None))
+            for late_age in range(age, ages):
+                for count in range(last + near + 1, min(last + far, 4095) + 1):
+                    states.append((age, last, (late_age, count)))
+    return states
