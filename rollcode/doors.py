@@ -31,10 +31,14 @@ class Door:
         name, age, code = one
         if name in self.buttons:
             raise Known("that button is known")
-        if len(self.buttons) >= self.most:
+        if self.is_full():
             raise Full("no button more may be known")
         self.buttons[name] = (age, second[0], None)
         self.log.append(("learn", one, other))
+
+    def is_full(self):
+        """Whether as many buttons are known as may be."""
+        return len(self.buttons) >= self.most
 
     def forget(self, name):
         """The button isn't known any more."""

@@ -1,6 +1,7 @@
 """Tables, keys, presses and small checks that several test files share."""
 
 from rollcode.doors import Door
+from rollcode.errors import CodeError
 from rollcode.presses import key_of, press_of
 from rollcode.tables import coded
 
@@ -141,3 +142,51 @@ def states_at(near, far, lasts, ages=2):
                 for count in range(last + near + 1, min(last + far, 4095) + 1):
                     states.append((age, last, (late_age, count)))
     return states
+
+
+NAMES = ("a", "b", "gate", "zz")
+
+
+def some_deed(door, chance, least=0, counts=40):
+    """Does something to the door, refused or not: all that its log may hold comes up."""
+    name = chance.choice(NAMES)
+    known = plain_button(door, name)
+    chosen = chance.randrange(20)
+    try:
+        if chosen == 0:
+            door.forget(name)
+        elif chosen == 1 and chance.randrange(3) == 0:
+            door.turn_key(HOUSE[len(door.keys_now()) % 8])
+        elif chosen == 2 and chance.randrange(3) == 0:
+            door.close_below(chance.randrange(len(door.keys_now())))
+        elif chosen == 3:
+            door.hear(chance.choice((None, wrong_sum(name, 0, 5), labelled(name, 9, 4))))
+        elif chosen < 8:
+            age = chance.randrange(len(door.keys_now()))
+            teach(door, name, age, least + chance.randrange(1, counts))
+        else:
+            age = chance.randrange(len(door.keys_now()))
+            last = least if known is None else known[1]
+            count = max(0, min(4095, last + chance.choice((-2, 0, 1, 1, 2, 5, 5, 6, 7, 30))))
+            door.hear(sent(name, age, count, chance.randrange(16)))
+    except CodeError:
+        pass
+
+
+def grown_door(chance, deeds, least=0, first_keys=None):
+    """A door to which much was done."""
+    many = first_keys or chance.randrange(1, 4)
+    door = new_door(many=many, near=chance.choice((1, 3)), far=chance.choice((6, 20)), most=3)
+    for k in range(deeds):
+        some_deed(door, chance, least)
+    return door
+
+
+def all_of(house, doors, buttons):
+    """All that a house tells of itself."""
+    return (
+        tuple(state_of(house.door_now(door)) for door in doors),
+        tuple(house.button_now(button) for button in buttons),
+        house.kept_now(),
+        tuple(house.opened_by(door) for door in doors),
+        house.apart_now())
